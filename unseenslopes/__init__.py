@@ -1,0 +1,1 @@
+"""Programs with slopes of functions that nobody has seen."""
