@@ -21,7 +21,7 @@ def is_number(value):
 
 
 def ratio_of(number):
-    """The Ratio with the value of a number."""
+    """The Ratio with the value of a number; raises InvalidNumber for any other value."""
     if isinstance(number, Ratio):
         return number
     return Ratio(number)
