@@ -110,7 +110,9 @@ class Witness:
             return Fraction(random.randint(-7, 7), random.randint(1, 3))
 
         self.numbers = {name: number() for name in world.inputs()}
+        self.moves = {}
         self.blanks = {index: number() for index in range(1, 7)}
+        self.taker = Taker()
         self.shapes = {}
         self.coefficients = {}
         self.centres = {}
@@ -127,6 +129,10 @@ class Witness:
             self.centres[name] = centre
             self.coefficients[name] = worths
             self.shapes[name] = self.moved(worths, centre)
+
+    def input(self, name):
+        """The number of an input, plus the tags by which its slopes are taken."""
+        return plain(self.numbers[name]) + Tagged({frozenset([tag]): Fraction(1) for tag in self.moves.get(name, ())})
 
     @staticmethod
     def moved(worths, centre):
@@ -160,16 +166,31 @@ class Expression:
         self.run = run
 
 
-TAGS = count()
+class Taker:
+    """Takes slopes by a rule, word by word as [11] says it."""
 
+    def __init__(self, naming="new", renewed=True):
+        self.naming = naming
+        self.renewed = renewed
+        self.depth = 0
+        self.many = count()
 
-def slope_value(function, place):
-    """The slope of a function at a place, by the rule new renewed."""
-    tag = next(TAGS)
-    answer = function(place + Tagged({frozenset([tag]): Fraction(1)}))
-    if isinstance(answer, Tagged):
-        return answer.stripped(tag)
-    return lambda given: slope_value(lambda moved: function(moved)(given), place)
+    def tag(self, site):
+        return {"one": "one", "site": f"site {site}", "depth": f"depth {self.depth}", "new": next(self.many)}[self.naming]
+
+    def slope(self, function, place, site):
+        tag = self.tag(site)
+        self.depth += 1
+        answer = function(place + Tagged({frozenset([tag]): Fraction(1)}))
+        self.depth -= 1
+        if self.renewed and not isinstance(answer, Tagged):
+            return lambda given: self.slope(lambda moved: function(moved)(given), place, site)
+        return self.stripping(answer, tag)
+
+    def stripping(self, answer, tag):
+        if isinstance(answer, Tagged):
+            return answer.stripped(tag)
+        return lambda given: self.stripping(answer(given), tag)
 
 
 class Maker:
@@ -179,6 +200,7 @@ class Maker:
         self.world = world
         self.random = random
         self.names = 0
+        self.sites = 0
 
     def fresh(self):
         self.names += 1
@@ -219,9 +241,12 @@ class Maker:
         return Expression(text, lambda witness, values: witness.one(name, order or 0))
 
     def sloped(self, inner):
+        self.sites += 1
+        site = self.sites
+
         def run(witness, values):
             function = inner.run(witness, values)
-            return lambda place: slope_value(function, place)
+            return lambda place: witness.taker.slope(function, place, site)
         return Expression(f"slope({inner.text})", run)
 
     def applied(self, kind, scope, depth):
@@ -277,7 +302,7 @@ class Maker:
             text = self.random.choice([str(top), f"{top}/{bottom}"])
             return Expression(text, lambda witness, values: plain(Fraction(text)))
         name = self.random.choice(self.world.inputs())
-        return Expression(name, lambda witness, values: plain(witness.numbers[name]))
+        return Expression(name, lambda witness, values: witness.input(name))
 
     def integral(self, one, other):
         name = self.random.choice(self.ones())

@@ -14,7 +14,7 @@ import unseenslopes
 FOLDER = pathlib.Path(unseenslopes.__file__).parent
 FILES = {path.stem: path.read_text(encoding="utf-8") for path in sorted(FOLDER.glob("*.py"))}
 TREES = {name: ast.parse(text) for name, text in FILES.items()}
-LIBRARY = {"math": {"gcd"}}
+LIBRARY = {"math": {"factorial", "gcd"}}
 BUILTINS = set("""len range enumerate zip min max sum abs sorted reversed int str bool list tuple dict set isinstance ord
     repr any all divmod ValueError LookupError NotImplemented property staticmethod""".split())
 METHODS = set("""append clear copy count endswith extend find get index insert isalnum isalpha isdigit islower isspace
@@ -24,7 +24,7 @@ METHODS = set("""append clear copy count endswith extend find get index insert i
 KEPT_ATTRIBUTES = set("""items keys values pop update append clear extend insert remove reverse setdefault sort args
     encode decode hex fromhex format mro format_map real imag numerator denominator conjugate""".split())
 DOUBLE = set("""__init__ __eq__ __repr__ __str__ __len__ __lt__ __le__ __gt__ __ge__ __ne__ __add__ __sub__ __mul__
-    __pow__ __radd__ __rsub__ __rmul__ __neg__ __abs__ __bool__ __contains__""".split())
+    __pow__ __radd__ __rsub__ __rmul__ __neg__ __abs__ __bool__ __contains__ __call__""".split())
 BARRED = set("register mro elements open input law version_info with_traceback add_note".split())
 BARRED_WORDS = set("""type typing typing_extensions enum Enum IntEnum StrEnum Flag IntFlag Generic Protocol ABC ABCMeta
     namedtuple NamedTuple TypedDict TYPE_CHECKING abstractmethod""".split())
@@ -120,7 +120,7 @@ class TestStatements(unittest.TestCase):
             self.assertIsInstance(node, STATEMENTS, (name, node.lineno))
 
     def test_expressions(self):
-        barred = (ast.GeneratorExp, ast.Lambda, ast.Yield, ast.Await, ast.NamedExpr, ast.Div, ast.MatMult, ast.Mod, ast.Set)
+        barred = (ast.GeneratorExp, ast.Lambda, ast.Yield, ast.Await, ast.NamedExpr, ast.Div, ast.MatMult, ast.Set)
         for name, node in nodes(barred):
             self.fail((name, ast.unparse(node)))
         for name, node in nodes(ast.Constant):
@@ -210,7 +210,7 @@ class TestNames(unittest.TestCase):
                 stored[node.attr] = name
         methods = {part.name for _, node in nodes(ast.ClassDef) for part in node.body if isinstance(part, ast.FunctionDef)}
         self.assertFalse(set(stored) & methods)
-        values = {"MOST"}
+        values = {"MOST", "KIND"}
         for name, node in nodes(ast.Attribute):
             self.assertIn(node.attr, set(stored) | methods | METHODS | values, (name, node.lineno))
 
@@ -226,7 +226,9 @@ class TestClasses(unittest.TestCase):
             if node.name == "__init__":
                 self.assertFalse(returns)
             if node.name in ("__str__", "__repr__"):
-                self.assertTrue(all(isinstance(part.value, ast.JoinedStr) for part in returns))
+                for part in returns:
+                    is_join = ast.unparse(part.value).startswith(("' '.join(", "', '.join("))
+                    self.assertTrue(is_join or isinstance(part.value, ast.JoinedStr))
                 self.assertIs(node.body[-1], returns[-1])
             if node.name == "__len__":
                 self.assertTrue(all(ast.unparse(part.value).startswith("len(") for part in returns))

@@ -93,7 +93,7 @@ def read_sum(reader):
     if not signs:
         return parts[0]
     marks = [sign.at for sign in signs]
-    return Node("plus", parts[0].at, parts=parts, worth=[sign.text for sign in signs], marks=marks)
+    return Node("plus", parts[0].at, parts=parts, held=[sign.text for sign in signs], marks=marks)
 
 
 def read_product(reader):
@@ -150,7 +150,7 @@ def read_slopes(reader, token):
         orders.append(read_order(reader))
     reader.expect("]")
     if len(orders) == 1:
-        return Node("slopes", token.at, name=token.text, worth=tuple(orders))
+        return Node("slopes", token.at, name=token.text, held=tuple(orders))
     reader.expect("(")
     return read_pair(reader, token, tuple(orders), read_sum(reader))
 
@@ -167,16 +167,16 @@ def read_pair(reader, token, orders, first):
     reader.expect(",")
     second = read_sum(reader)
     reader.expect(")")
-    return Node("pair", token.at, parts=[first, second], name=token.text, worth=orders)
+    return Node("pair", token.at, parts=[first, second], name=token.text, held=orders)
 
 
 def read_factor(reader):
     """The node of a FACTOR that does not begin with a name."""
     token = reader.ahead()
     if token.kind == "numeral":
-        return Node("numeral", reader.step().at, worth=Ratio.read(token.text))
+        return Node("numeral", reader.step().at, held=Ratio.read(token.text))
     if token.kind == "blank":
-        return Node("blank", reader.step().at, worth=int(token.text[1]))
+        return Node("blank", reader.step().at, held=int(token.text[1]))
     if token.text == "(":
         return read_enclosed(reader)
     if token.text == "fn":
@@ -206,7 +206,7 @@ def read_function(reader):
         kind = OF_MAP
     name = reader.expect_name().text
     reader.expect(":")
-    return Node("fn", at, parts=[read_sum(reader)], name=name, worth=kind)
+    return Node("fn", at, parts=[read_sum(reader)], name=name, held=kind)
 
 
 def read_integral(reader):

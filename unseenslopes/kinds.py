@@ -132,8 +132,8 @@ def kind_of_pair(world, node, scope, _):
 def kind_of_function(world, node, scope, _):
     """The kind of a function, which is kept for its evaluation."""
     check_free(world, node.name, scope)
-    inner = {**scope, node.name: ARGUMENTS[node.worth]}
-    node.kind = node.worth + kind_of(world, node.parts[0], inner, False)
+    inner = {**scope, node.name: ARGUMENTS[node.held]}
+    node.kind = node.held + kind_of(world, node.parts[0], inner, False)
     return node.kind
 
 

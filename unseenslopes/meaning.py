@@ -1,8 +1,9 @@
 """The meanings of programs."""
 
+from unseenslopes.grounds import FormGround
 from unseenslopes.running import run_tree
 
 
 def meaning(program):
     """The form that a program means."""
-    return run_tree(program.world, program.tree)
+    return run_tree(FormGround(program.world), program.tree)

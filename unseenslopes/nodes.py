@@ -7,7 +7,7 @@ OF_MAP = "@"
 class Node:
     """A part of a program.
 
-    word      parts                    name       worth               marks
+    word      parts                    name       held                marks
     plus      the summands             -          their signs         places of the signs
     times     the factors              -          -                   places of the signs
     minus     what stands behind       -          -                   -
@@ -26,12 +26,12 @@ class Node:
     one. `kind` is set for a fn when its program is checked.
     """
 
-    def __init__(self, word, at, *, parts=(), name="", worth=None, marks=()):
+    def __init__(self, word, at, *, parts=(), name="", held=None, marks=()):
         self.word = word
         self.at = at
         self.parts = parts
         self.name = name
-        self.worth = worth
+        self.held = held
         self.marks = marks
         self.kind = ""
 
@@ -46,7 +46,7 @@ class Tree:
 
 def blanks_of(node):
     """The ascending list of the numbers of the blanks in a node, each once."""
-    found = [node.worth] if node.word == "blank" else []
+    found = [node.held] if node.word == "blank" else []
     for part in node.parts:
         found.extend(blanks_of(part))
     return sorted(set(found))
@@ -60,14 +60,14 @@ def changed_tree(tree, names, numbers):
 
 def changed(node, names, numbers):
     """A new node in which names stand by a dict for names, and Ratios by their indexes for blanks."""
-    if node.word == "blank" and node.worth <= len(numbers):
-        return number_node(numbers[node.worth - 1])
+    if node.word == "blank" and node.held <= len(numbers):
+        return number_node(numbers[node.held - 1])
     parts = [changed(part, names, numbers) for part in node.parts]
     name = names.get(node.name, node.name)
-    return Node(node.word, node.at, parts=parts, name=name, worth=node.worth, marks=node.marks)
+    return Node(node.word, node.at, parts=parts, name=name, held=node.held, marks=node.marks)
 
 
 def number_node(ratio):
     """The node of a Ratio: below 0, a minus sign and the opposite."""
-    numeral = Node("numeral", 0, worth=abs(ratio))
+    numeral = Node("numeral", 0, held=abs(ratio))
     return Node("minus", 0, parts=[numeral]) if ratio.top < 0 else numeral

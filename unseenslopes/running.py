@@ -4,10 +4,8 @@ Tasks wait on a list instead of in nested calls of Python, since the functions o
 call one another thousands of times deep.
 """
 
-from unseenslopes.calculus import input_form, integral_of, put_for, slope_of
-from unseenslopes.forms import constant
 from unseenslopes.kinds import A_MAP
-from unseenslopes.normal import plain_form, unseen_form
+from unseenslopes.normal import INTEGRAL
 
 
 class UnseenMap:
@@ -29,12 +27,25 @@ class Closure:
 
 
 class SlopeMap:
-    """The slope of a function, which waits until all arguments are given, as a value."""
+    """The slope of a function at the arguments that were given so far, as a value.
 
-    def __init__(self, inner, given):
+    `site` is the place of the word slope.
+    """
+
+    def __init__(self, inner, given, site):
         self.kind = inner.kind[len(given):]
         self.inner = inner
         self.given = given
+        self.site = site
+
+
+class StripMap:
+    """A function whose answers are stripped of a mark, as a value."""
+
+    def __init__(self, inner, mark):
+        self.kind = inner.kind
+        self.inner = inner
+        self.mark = mark
 
 
 class Runner:
@@ -43,25 +54,19 @@ class Runner:
     A task is a tuple of its word, what it is about, and the values of the names known there.
     """
 
-    def __init__(self, world):
-        self.world = world
+    def __init__(self, ground):
+        self.ground = ground
         self.tasks = []
-        self.worths = []
-        self.made = 0
+        self.left = []
 
     def later(self, tasks):
         """Puts tasks ahead of those that wait."""
         self.tasks.extend(tasks[::-1])
 
-    def fresh_name(self):
-        """The name of an input that nothing else uses: no name of a program has a digit."""
-        self.made += 1
-        return f"z{self.made}"
 
-
-def run_tree(world, tree):
-    """The value of the last expression of a program."""
-    runner = Runner(world)
+def run_tree(ground, tree):
+    """The value of the last expression of a program, with the numbers of a ground."""
+    runner = Runner(ground)
     scope = {}
     for name, node in tree.lets:
         scope = {**scope, name: run_node(runner, node, scope)}
@@ -75,7 +80,7 @@ def run_node(runner, node, scope):
         word, what, known = runner.tasks.pop()
         act = ACTIONS[word]
         act(runner, what, known)
-    return runner.worths.pop()
+    return runner.left.pop()
 
 
 def start(node, scope):
@@ -91,7 +96,7 @@ def finish(word, what=None):
 def run_plus(runner, node, scope):
     """Leaves a sum."""
     tasks = [start(node.parts[0], scope)]
-    for part, sign in zip(node.parts[1:], node.worth):
+    for part, sign in zip(node.parts[1:], node.held):
         tasks.extend([start(part, scope), finish(sign)])
     runner.later(tasks)
 
@@ -119,28 +124,27 @@ def run_call(runner, node, scope):
 
 def run_numeral(runner, node, _):
     """Leaves a number."""
-    runner.worths.append(constant(node.worth))
+    runner.left.append(runner.ground.number(node.held))
 
 
 def run_blank(runner, node, _):
     """Leaves a blank."""
-    text = f"?{node.worth}"
-    runner.worths.append(plain_form(text, text))
+    runner.left.append(runner.ground.blank(node.held))
 
 
 def run_name(runner, node, scope):
     """Leaves what a name stands for."""
     if node.name in scope:
-        runner.worths.append(scope[node.name])
-    elif node.name in runner.world.inputs():
-        runner.worths.append(input_form(runner.world, node.name))
+        runner.left.append(scope[node.name])
+    elif node.name in runner.ground.world.inputs():
+        runner.left.append(runner.ground.input_number(node.name))
     else:
-        runner.worths.append(UnseenMap(node.name, 0))
+        runner.left.append(UnseenMap(node.name, 0))
 
 
 def run_slopes(runner, node, _):
     """Leaves an unseen function with slopes."""
-    runner.worths.append(UnseenMap(node.name, node.worth[0]))
+    runner.left.append(UnseenMap(node.name, node.held[0]))
 
 
 def run_pair(runner, node, scope):
@@ -150,12 +154,12 @@ def run_pair(runner, node, scope):
 
 def run_function(runner, node, scope):
     """Leaves a function."""
-    runner.worths.append(Closure(node, scope))
+    runner.left.append(Closure(node, scope))
 
 
 def run_slope(runner, node, scope):
     """Leaves the slope of a function."""
-    runner.later([start(node.parts[0], scope), finish("slope of")])
+    runner.later([start(node.parts[0], scope), finish("slope of", node)])
 
 
 def run_integral(runner, node, scope):
@@ -165,81 +169,107 @@ def run_integral(runner, node, scope):
 
 def add_last(runner, what, _):
     """Adds the last two values."""
-    other = runner.worths.pop()
-    runner.worths.append(runner.worths.pop() + other)
+    other = runner.left.pop()
+    runner.left.append(runner.left.pop() + other)
 
 
 def subtract_last(runner, what, _):
     """Takes the last value from the one ahead of it."""
-    other = runner.worths.pop()
-    runner.worths.append(runner.worths.pop() - other)
+    other = runner.left.pop()
+    runner.left.append(runner.left.pop() - other)
 
 
 def multiply_last(runner, what, _):
     """Multiplies the last two values."""
-    other = runner.worths.pop()
-    runner.worths.append(runner.worths.pop() * other)
+    other = runner.left.pop()
+    runner.left.append(runner.left.pop() * other)
 
 
 def negate_last(runner, what, _):
     """Leaves the opposite of the last value."""
-    runner.worths.append(-runner.worths.pop())
+    runner.left.append(-runner.left.pop())
 
 
 def leave_value(runner, what, _):
     """Leaves a value that is known."""
-    runner.worths.append(what)
+    runner.left.append(what)
 
 
 def apply_unseen(runner, node, _):
     """Leaves the value of an unseen function at the last two values."""
-    other = runner.worths.pop()
-    one = runner.worths.pop()
-    runner.worths.append(unseen_form(runner.world, node.name, node.worth, (one, other)))
+    other = runner.left.pop()
+    one = runner.left.pop()
+    runner.left.append(runner.ground.value_of(node.name, node.held, (one, other)))
 
 
 def take_integral(runner, node, _):
     """Leaves the integral between the last two values."""
-    end = runner.worths.pop()
-    begin = runner.worths.pop()
-    runner.worths.append(integral_of(runner.world, begin, end, node.name))
+    end = runner.left.pop()
+    begin = runner.left.pop()
+    upper = runner.ground.value_of(node.name, (INTEGRAL,), (end,))
+    runner.left.append(upper - runner.ground.value_of(node.name, (INTEGRAL,), (begin,)))
 
 
-def take_slope(runner, what, _):
+def take_slope(runner, node, _):
     """Leaves the slope of the last value, a function."""
-    runner.worths.append(SlopeMap(runner.worths.pop(), []))
+    runner.left.append(SlopeMap(runner.left.pop(), [], node.at))
 
 
-def end_slope(runner, name, _):
-    """Leaves the slope of the last value, a number, by an input at 0."""
-    slope = slope_of(runner.world, runner.worths.pop(), name)
-    runner.worths.append(put_for(runner.world, slope, name, 0))
+def end_slope(runner, mark, _):
+    """Ends the application by which a slope is taken, and strips what it answered."""
+    runner.ground.end_slope()
+    runner.later([finish("strip", mark)])
+
+
+def strip_last(runner, mark, _):
+    """Strips the last value of a mark: a number at once, a function when it answers."""
+    worth = runner.left.pop()
+    if is_map(worth):
+        runner.left.append(StripMap(worth, mark))
+    else:
+        runner.left.append(runner.ground.stripped(worth, mark))
+
+
+def is_map(value):
+    """Whether a value is a function."""
+    return isinstance(value, (UnseenMap, Closure, SlopeMap, StripMap))
 
 
 def apply_last(runner, what, _):
     """Applies a function to the last value, both of which were left."""
-    argument = runner.worths.pop()
-    function = runner.worths.pop()
+    argument = runner.left.pop()
+    function = runner.left.pop()
     if isinstance(function, UnseenMap):
-        runner.worths.append(unseen_form(runner.world, function.name, (function.order,), (argument,)))
+        runner.left.append(runner.ground.value_of(function.name, (function.order,), (argument,)))
     elif isinstance(function, Closure):
         node = function.node
         runner.later([start(node.parts[0], {**function.scope, node.name: argument})])
-    else:
+    elif isinstance(function, SlopeMap):
         apply_slope(runner, function, argument)
+    else:
+        runner.later([*applied(function.inner, [argument]), finish("strip", function.mark)])
+
+
+def applied(function, given):
+    """The tasks that leave what a function answers to some arguments."""
+    tasks = [finish("value", function)]
+    for worth in given:
+        tasks.extend([finish("value", worth), finish("apply")])
+    return tasks
 
 
 def apply_slope(runner, function, argument):
-    """Gives a further argument to a slope; the last one has it taken, by the first one."""
+    """Gives a further argument to a slope, which is taken by the first one.
+
+    A slope that is renewed is taken when the last argument is given, at all of them anew.
+    """
     given = [*function.given, argument]
-    if len(function.kind) > 1:
-        runner.worths.append(SlopeMap(function.inner, given))
+    if runner.ground.is_renewed and len(function.kind) > 1:
+        runner.left.append(SlopeMap(function.inner, given, function.site))
     else:
-        name = runner.fresh_name()
-        tasks = [finish("value", function.inner)]
-        for worth in [given[0] + plain_form(name, name), *given[1:]]:
-            tasks.extend([finish("value", worth), finish("apply")])
-        runner.later([*tasks, finish("end slope", name)])
+        mark = runner.ground.begin_slope(function.site)
+        moved = runner.ground.moved(given[0], mark)
+        runner.later([*applied(function.inner, [moved, *given[1:]]), finish("end slope", mark)])
 
 
 ACTIONS = {
@@ -265,4 +295,5 @@ ACTIONS = {
     "integral to": take_integral,
     "slope of": take_slope,
     "end slope": end_slope,
+    "strip": strip_last,
 }

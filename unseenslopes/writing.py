@@ -64,7 +64,7 @@ def write_row(pen, node, signs, words):
 
 def write_plus(pen, node):
     """Writes a sum."""
-    write_row(pen, node, node.worth, ("plus",))
+    write_row(pen, node, node.held, ("plus",))
 
 
 def write_times(pen, node):
@@ -91,12 +91,12 @@ def write_call(pen, node):
 
 def write_numeral(pen, node):
     """Writes a Ratio."""
-    pen.write(str(node.worth))
+    pen.write(str(node.held))
 
 
 def write_blank(pen, node):
     """Writes a blank."""
-    pen.write(f"?{node.worth}")
+    pen.write(f"?{node.held}")
 
 
 def write_name(pen, node):
@@ -106,12 +106,12 @@ def write_name(pen, node):
 
 def write_slopes(pen, node):
     """Writes an unseen function with slopes."""
-    pen.write(f"{node.name}[{node.worth[0]}]")
+    pen.write(f"{node.name}[{node.held[0]}]")
 
 
 def write_pair(pen, node):
     """Writes a value at two arguments."""
-    one, other = node.worth
+    one, other = node.held
     pen.write(node.name if one == 0 and other == 0 else f"{node.name}[{one},{other}]")
     pen.write("(")
     write_node(pen, node.parts[0])
@@ -122,7 +122,7 @@ def write_pair(pen, node):
 
 def write_function(pen, node):
     """Writes a function."""
-    sign = "@" if node.worth == OF_MAP else ""
+    sign = "@" if node.held == OF_MAP else ""
     pen.write(f"fn {sign}{node.name}: ")
     write_node(pen, node.parts[0])
 
