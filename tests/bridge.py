@@ -100,6 +100,17 @@ def random_program(world, source, maker=None, depth=4, kinds=("", "x", "x", "xx"
             pass
 
 
+def program_with(world, source, making, lets):
+    """A pair of a Made with given lets, tuples of a name, an expression and a kind, and its Program."""
+    scope = {name: kind for name, _, kind in lets}
+    while True:
+        made = Made([(name, part) for name, part, _ in lets], making.make("", scope, source.randint(2, 4)))
+        try:
+            return made, Program(world, made.text)
+        except TooLarge:
+            pass
+
+
 def random_made(world, source, maker, depth, kinds):
     making = maker(world, source)
     scope, lets = {}, []

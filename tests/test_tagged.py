@@ -4,11 +4,11 @@ import random
 import unittest
 from fractions import Fraction
 
-from bridge import Made, random_program, random_world
+from bridge import program_with, random_program, random_world
 from helpers import ANY_VALUES, Case
 from oracle import FormText, Maker, Taker, Witness
 from slopy import ShiftMaker, SlopeMaker, app, lam, plus, times, var
-from unseenslopes.errors import InvalidName, TooLarge
+from unseenslopes.errors import InvalidName
 from unseenslopes.forms import Form
 from unseenslopes.meaning import meaning
 from unseenslopes.programs import Program
@@ -171,7 +171,7 @@ class TestAgainstTheReckoning(Case):
             world = random_world(source)
             making = NumberSlopes(world, source)
             lets = [(name, made, kind) for name, made, kind in making.lets() if name in ("da", "db")]
-            made, program = self.with_lets(world, source, making, lets)
+            made, program = program_with(world, source, making, lets)
             found.update(self.check(world, made, program, source))
         self.assertEqual(found, {"one kept", "one renewed", "site kept", "site renewed"})
 
@@ -181,18 +181,9 @@ class TestAgainstTheReckoning(Case):
         for _ in range(250):
             world = random_world(source)
             making = ShiftMaker(world, source)
-            made, program = self.with_lets(world, source, making, making.lets())
+            made, program = program_with(world, source, making, making.lets())
             found.update(self.check(world, made, program, source))
         self.assertLessEqual({rule for rule in NAMES if rule not in ("depth renewed", "new renewed")}, found)
-
-    def with_lets(self, world, source, making, lets):
-        scope = {name: kind for name, _, kind in lets}
-        while True:
-            made = Made([(name, part) for name, part, _ in lets], making.make("", scope, source.randint(2, 4)))
-            try:
-                return made, Program(world, made.text)
-            except TooLarge:
-                pass
 
 
 class NumberSlopes(ShiftMaker):
