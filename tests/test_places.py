@@ -207,37 +207,44 @@ class TestDrawings(PlacesCase):
             if len(form.terms()) > 60:
                 continue
             for attempt in (0, 2, 7, 9):
-                drawing = Drawing(world, form, [], attempt)
-                draw_all(drawing)
-                witness = drawn_witness(drawing)
-                for text, atom in drawing.atoms.items():
-                    self.assertEqual(witness.worth(Form(atom_poly(atom))), drawing.found[text], (form.text, attempt, text))
+                witness = self.check_drawing(world, form, attempt)
                 if attempt == 9 and not form.is_zero:
                     self.assertNotEqual(witness.worth(form), 0)
 
     def test_places_that_meet(self):
         """Different forms may have one value: then the values of a function there are the same."""
         for swap in (None, "same", "minus"):
-            world = World(["x"], {"f": Unseen(mirror="odd", centre=1), "g": Unseen(2, swap=swap), "c": Unseen(degree=0)})
-            x = input_form(world, "x")
-            c = unseen_at(world, "c", [0], [x])
-            for attempt in range(12):
-                number = Drawing(world, x, [], attempt)
-                draw_all(number)
-                met = constant(number.found["x"])
-                form = constant(0)
-                for one, other in [(x, met), (met, x), (x, c), (c, x), (c, met), (met, c), (met, met), (x, x)]:
-                    for i in range(3):
-                        for j in range(3):
-                            form = form + unseen_at(world, "g", [i, j], [one, other]) * (7 * i + j + 2) ** 2
-                    form = form * (unseen_at(world, "f", [2], [one]) + 2 * unseen_at(world, "f", [0], [one + met - c]))
-                    form = Form(form.poly) if len(form.terms()) < 40 else form - form + c
-                    form = form + integral_of(world, 0, one, "f") * 3
-                drawing = Drawing(world, form, [], attempt)
-                draw_all(drawing)
-                witness = drawn_witness(drawing)
-                for text, atom in drawing.atoms.items():
-                    self.assertEqual(witness.worth(Form(atom_poly(atom))), drawing.found[text], (attempt, text))
+            for mirror in MIRRORS:
+                centre = HALF if mirror else 0
+                world = World(["x", "y"], {"f": Unseen(mirror=mirror, centre=centre), "g": Unseen(2, swap=swap)})
+                for attempt in (0, 3, 5, 7, 10):
+                    self.check_drawing(world, self.form_of_places_that_meet(world, attempt), attempt)
+
+    def form_of_places_that_meet(self, world, attempt):
+        """The sum of atoms at places that have equal, mirrored or exchanged values in a trial."""
+        x, y = input_form(world, "x"), input_form(world, "y")
+        plain = Drawing(world, x + y, [], attempt)
+        draw_all(plain)
+        met = constant(plain.found["x"])
+        centre = world.fact("f").centre
+        form = x * y
+        for place in (x, met, 2 * centre - x, x - met + centre, constant(centre), y - y + 3, x - met + 3):
+            for order in (0, 1, 2, 3):
+                form = form + unseen_at(world, "f", [order], [place]) * (order + 2)
+            if attempt % 3:
+                form = form + integral_of(world, centre, place, "f")
+        for one, other in [(x, met), (met, x), (x, x), (met, met), (x, y), (y, met), (met, y), (y, x), (y, constant(0)), (x - met, y)]:
+            for i, j in [(0, 0), (1, 0), (0, 1), (2, 0), (1, 1), (0, 2), (1, 2)]:
+                form = form + unseen_at(world, "g", [i, j], [one, other]) * (i + 3 * j + 1)
+        return form
+
+    def check_drawing(self, world, form, attempt):
+        drawing = Drawing(world, form, [], attempt)
+        draw_all(drawing)
+        witness = drawn_witness(drawing)
+        for text, atom in drawing.atoms.items():
+            self.assertEqual(witness.worth(Form(atom_poly(atom))), drawing.found[text], (world.text, attempt, text))
+        return witness
 
 
 class TestRandomForms(PlacesCase):
