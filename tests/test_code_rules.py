@@ -14,9 +14,9 @@ import unseenslopes
 FOLDER = pathlib.Path(unseenslopes.__file__).parent
 FILES = {path.stem: path.read_text(encoding="utf-8") for path in sorted(FOLDER.glob("*.py"))}
 TREES = {name: ast.parse(text) for name, text in FILES.items()}
-LIBRARY = {"math": {"factorial", "gcd"}}
+LIBRARY = {"math": {"factorial", "gcd"}, "heapq": {"heappop", "heappush"}}
 BUILTINS = set("""len range enumerate zip min max sum abs sorted reversed int str bool list tuple dict set isinstance ord
-    repr any all divmod ValueError LookupError NotImplemented property staticmethod""".split())
+    repr any all divmod ValueError LookupError TypeError NotImplemented property staticmethod""".split())
 METHODS = set("""append clear copy count endswith extend find get index insert isalnum isalpha isdigit islower isspace
     isupper items join keys ljust lower lstrip partition pop remove replace reverse rfind rjust rpartition rsplit rstrip
     setdefault split splitlines startswith strip update upper values zfill bit_length removeprefix removesuffix add
@@ -24,13 +24,14 @@ METHODS = set("""append clear copy count endswith extend find get index insert i
 KEPT_ATTRIBUTES = set("""items keys values pop update append clear extend insert remove reverse setdefault sort args
     encode decode hex fromhex format mro format_map real imag numerator denominator conjugate""".split())
 DOUBLE = set("""__init__ __eq__ __repr__ __str__ __len__ __lt__ __le__ __gt__ __ge__ __ne__ __add__ __sub__ __mul__
-    __pow__ __radd__ __rsub__ __rmul__ __neg__ __abs__ __bool__ __contains__ __call__""".split())
+    __pow__ __radd__ __rsub__ __rmul__ __neg__ __abs__ __bool__ __contains__ __call__ __getitem__ __setitem__
+    __iter__""".split())
 BARRED = set("register mro elements open input law version_info with_traceback add_note".split())
 BARRED_WORDS = set("""type typing typing_extensions enum Enum IntEnum StrEnum Flag IntFlag Generic Protocol ABC ABCMeta
     namedtuple NamedTuple TypedDict TYPE_CHECKING abstractmethod""".split())
 STATEMENTS = (
     ast.Assign, ast.AugAssign, ast.If, ast.While, ast.For, ast.Return, ast.Break, ast.Continue, ast.Pass, ast.Raise,
-    ast.Expr, ast.FunctionDef, ast.ClassDef, ast.ImportFrom,
+    ast.Expr, ast.FunctionDef, ast.ClassDef, ast.ImportFrom, ast.Try,
 )
 
 
@@ -118,6 +119,30 @@ class TestStatements(unittest.TestCase):
     def test_statements(self):
         for name, node in nodes(ast.stmt):
             self.assertIsInstance(node, STATEMENTS, (name, node.lineno))
+
+    def test_handlers(self):
+        own = {node.name for node in ast.walk(TREES["errors"]) if isinstance(node, ast.ClassDef)}
+        for name, node in nodes(ast.Try):
+            self.assertFalse(node.orelse)
+            for handler in node.handlers:
+                named = handler.type.elts if isinstance(handler.type, ast.Tuple) else [handler.type]
+                self.assertTrue(all(part.id in own for part in named), (name, node.lineno))
+            for part in node.finalbody:
+                self.assertIsInstance(part, ast.Assign)
+                self.assertEqual(len(part.targets), 1)
+                self.assertIsInstance(part.targets[0], (ast.Name, ast.Attribute))
+                self.assertIsInstance(part.value, ast.Name)
+
+    def test_items_without_iteration(self):
+        for name, node in nodes(ast.ClassDef):
+            made = {part.name: part for part in node.body if isinstance(part, ast.FunctionDef)}
+            self.assertEqual("__getitem__" in made, "__iter__" in made, node.name)
+            if "__iter__" in made:
+                self.assertEqual(len(made["__iter__"].body), 1)
+                self.assertIsInstance(made["__iter__"].body[0], ast.Raise)
+        for name, text in FILES.items():
+            self.assertNotRegex(text, r"\(type\)|Meta|metaclass=")
+            self.assertNotIn("reversed(", text)
 
     def test_expressions(self):
         barred = (ast.GeneratorExp, ast.Lambda, ast.Yield, ast.Await, ast.NamedExpr, ast.Div, ast.MatMult, ast.Set)

@@ -215,6 +215,29 @@ class TestRenamed(Case):
         self.assert_fails(UnknownName("fn"), made.renamed, {"f": "z", "fn": "f"})
         self.assert_fails(UnknownName("z"), program("let a = f; a(x)").renamed, {"f": "g", "h": "z"})
 
+    def test_several_led_to_one(self):
+        world = World(["x"], {"f": Unseen(), "h": Unseen(mirror="even"), "k": Unseen(degree=1), "g": Unseen(2)})
+        rows = [
+            ("f(x) + h(x) + k(x)", {"f": "k", "h": "k"}, "k(x) + k(x) + k(x)"), ("f(h(k(x)))", {"f": "h", "h": "k", "k": "f"}, "h(k(f(x)))"),
+            ("f(h(x))", {"f": "h", "k": "f"}, "h(h(x))"), ("g(f(x), g(h(x), 1))", {"f": "h", "h": "h", "g": "g"}, "g(h(x), g(h(x), 1))"),
+            ("f[1](x) - slope(h)(x)", {"h": "f"}, "f[1](x) - slope(f)(x)"), ("integral(0, x, f) * integral(x, 1, h)", {"f": "h", "h": "f"},
+                                                                            "integral(0, x, h) * integral(x, 1, f)"),
+        ]
+        for text, names, want in rows:
+            renamed = Program(world, text).renamed(names)
+            self.assertEqual(renamed, Program(world, want))
+            self.assertEqual(meaning(renamed), meaning(Program(world, want)))
+            self.assertIs(renamed.world, world)
+
+    def test_parameters_and_lets_stay(self):
+        world = World(["x"], {"f": Unseen(), "h": Unseen()})
+        text = "let a = f; let b = fn t: a(t) * h(t); (fn @q: fn s: q(s) * b(s))(f)(x)"
+        want = "let a = h; let b = fn t: a(t) * f(t); (fn @q: fn s: q(s) * b(s))(h)(x)"
+        self.assertEqual(Program(world, text).renamed({"f": "h", "h": "f"}).text, want)
+        for name in ["a", "b", "t", "q", "s"]:
+            self.assert_fails(UnknownName(name), Program(world, text).renamed, {name: "f"})
+            self.assert_fails(UnknownName(name), Program(world, text).renamed, {"f": name})
+
     def test_places_in_the_new_text(self):
         world = World(["x"], {"f": Unseen(), "long": Unseen(), "g": Unseen(2), "pair": Unseen(2)})
         rows = [
