@@ -1,9 +1,11 @@
 """Programs: texts that were read and checked in a world."""
 
+from unseenslopes.errors import InvalidText
 from unseenslopes.grammar import read_tree
 from unseenslopes.kinds import check_tree
 from unseenslopes.nodes import blanks_of, changed_tree
 from unseenslopes.ratios import ratio_of
+from unseenslopes.tokens import squeezed
 from unseenslopes.writing import write_tree
 
 
@@ -55,4 +57,17 @@ def program_of(world, tree):
     program = Program(world, "0")
     program.tree = tree
     program.text = text
+    return program
+
+
+def moved_program(program, world):
+    """The program under other facts, in a world with the same names; its text may be longer than one that is read."""
+    return program_of(world, program.tree)
+
+
+def kept_program(world, text):
+    """The program with a text that a program keeps, which may be longer than one that is read."""
+    program = Program(world, squeezed(text))
+    if program.text != text:
+        raise InvalidText(0)
     return program

@@ -73,3 +73,14 @@ def end_of_run(text, at, signs):
     while end < len(text) and text[end] in signs:
         end += 1
     return end
+
+
+def squeezed(text):
+    """A text without the spaces that its tokens do not need: those that do not part words."""
+    pieces = []
+    is_behind_word = False
+    for token in tokens_of(text):
+        is_word = token.kind == "word"
+        pieces.append(f" {token.text}" if is_word and is_behind_word else token.text)
+        is_behind_word = is_word
+    return "".join(pieces)
