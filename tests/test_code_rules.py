@@ -31,7 +31,7 @@ BARRED_WORDS = set("""type typing typing_extensions enum Enum IntEnum StrEnum Fl
     namedtuple NamedTuple TypedDict TYPE_CHECKING abstractmethod""".split())
 STATEMENTS = (
     ast.Assign, ast.AugAssign, ast.If, ast.While, ast.For, ast.Return, ast.Break, ast.Continue, ast.Pass, ast.Raise,
-    ast.Expr, ast.FunctionDef, ast.ClassDef, ast.ImportFrom, ast.Try,
+    ast.Expr, ast.FunctionDef, ast.ClassDef, ast.ImportFrom, ast.Try, ast.Delete,
 )
 
 
@@ -132,6 +132,11 @@ class TestStatements(unittest.TestCase):
                 self.assertEqual(len(part.targets), 1)
                 self.assertIsInstance(part.targets[0], (ast.Name, ast.Attribute))
                 self.assertIsInstance(part.value, ast.Name)
+
+    def test_deleted_items(self):
+        for name, node in nodes(ast.Delete):
+            for target in node.targets:
+                self.assertIsInstance(target, ast.Subscript, (name, node.lineno))
 
     def test_items_without_iteration(self):
         for name, node in nodes(ast.ClassDef):

@@ -2,7 +2,7 @@
 
 from unseenslopes.errors import InvalidRow, UnlikeWorlds
 from unseenslopes.grounds import FormGround, RatioGround
-from unseenslopes.holding import held_worths
+from unseenslopes.holding import answer_worths
 from unseenslopes.rows import is_row, is_slot, plain_row, reads_of, row_text
 
 
@@ -44,15 +44,13 @@ class Code:
 
     def forms(self):
         """The list of the forms of the answers."""
-        held = held_worths(FormGround(self.world), self._rows)
-        return [held[slot] for slot in self._slots]
+        return answer_worths(FormGround(self.world), self)
 
     def numbers(self, witness):
         """The list of the Ratios of the answers at a witness."""
         if witness.world != self.world:
             raise UnlikeWorlds()
-        held = held_worths(RatioGround(witness), self._rows)
-        return [held[slot] for slot in self._slots]
+        return answer_worths(RatioGround(witness), self)
 
     def __len__(self):
         return len(self._rows)

@@ -1,14 +1,31 @@
-"""What slots hold while rows write into them: forms, or Ratios at a witness."""
+"""What rows write: forms, or Ratios at a witness."""
 
 from unseenslopes.rows import reads_of
+from unseenslopes.straight import ended_by, last_uses, straight, trimmed
 
 
-def held_worths(ground, rows):
-    """The dict from slots to what they hold behind all rows, numbers of a ground."""
+def row_worths(ground, rows):
+    """The list of what straight rows write, numbers of a ground."""
+    worths = []
+    for row in rows:
+        worths.append(row_worth(ground, row, [worths[slot] for slot in reads_of(row)]))
+    return worths
+
+
+def answer_worths(ground, code):
+    """The list of the answers of a code, numbers of a ground.
+
+    What is not read any more is not held: the texts of forms may be long.
+    """
+    every, slots = straight(code)
+    rows, answers = trimmed(every, slots)
+    lasts = last_uses(rows, answers)
     held = {}
     for row in rows:
         held[row[0]] = row_worth(ground, row, [held[slot] for slot in reads_of(row)])
-    return held
+        for slot in ended_by(row, lasts):
+            del held[slot]
+    return [held[answer] for answer in answers]
 
 
 def row_worth(ground, row, given):

@@ -4,15 +4,15 @@ from heapq import heappop, heappush
 
 from unseenslopes.codes import Code
 from unseenslopes.grounds import FormGround
-from unseenslopes.holding import held_worths
-from unseenslopes.rows import moved_row, reads_of
-from unseenslopes.straight import straight, trimmed
+from unseenslopes.holding import row_worths
+from unseenslopes.rows import moved_row
+from unseenslopes.straight import ended_by, last_uses, straight, trimmed
 
 
 def shared(code):
     """The code without the rows whose form an earlier one writes, and without those that are not read."""
     rows, answers = straight(code)
-    forms = held_worths(FormGround(code.world), rows)
+    forms = row_worths(FormGround(code.world), rows)
     firsts = {}
     for row in rows:
         firsts.setdefault(forms[row[0]].text, row[0])
@@ -20,22 +20,6 @@ def shared(code):
     moved = [moved_row(row, row[0], places) for row in rows]
     kept, kept_answers = trimmed(moved, [places[answer] for answer in answers])
     return Code(code.world, kept, kept_answers)
-
-
-def last_uses(rows, answers):
-    """The list of the indexes of the last row up to which what a straight row writes is kept."""
-    lasts = [row[0] for row in rows]
-    for row in rows:
-        for slot in reads_of(row):
-            lasts[slot] = row[0]
-    for answer in answers:
-        lasts[answer] = len(rows)
-    return lasts
-
-
-def ended_by(row, lasts):
-    """The list of the straight rows whose values a row reads last."""
-    return [slot for slot in sorted(set(reads_of(row))) if lasts[slot] == row[0]]
 
 
 def alive_counts(code):

@@ -26,3 +26,19 @@ def trimmed(rows, answers):
             places[row[0]] = len(kept)
             kept.append(moved_row(row, len(kept), places))
     return kept, [places[answer] for answer in answers]
+
+
+def last_uses(rows, answers):
+    """The list of the indexes of the last row up to which what a straight row writes is kept."""
+    lasts = [row[0] for row in rows]
+    for row in rows:
+        for slot in reads_of(row):
+            lasts[slot] = row[0]
+    for answer in answers:
+        lasts[answer] = len(rows)
+    return lasts
+
+
+def ended_by(row, lasts):
+    """The list of the straight rows whose values a row reads last."""
+    return [slot for slot in sorted(set(reads_of(row))) if lasts[slot] == row[0]]
