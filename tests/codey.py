@@ -31,7 +31,7 @@ def random_code(world, source, most=14, orders=(-1, 0, 0, 0, 1, 2), slots=5, pro
         if word == "in" and world.inputs():
             row, depth = (slot, "in", source.choice(world.inputs())), 0
         elif word in ("in", "put"):
-            row, depth = (slot, "put", source.choice([0, 1, 2, -3, Ratio(1, 2), Ratio(-2, 3)])), 0
+            row, depth = (slot, "put", source.choice([Ratio(0), Ratio(1), Ratio(2), Ratio(-3), Ratio(1, 2), Ratio(-2, 3)])), 0
         elif word == "one" and ones:
             row, depth = (slot, "one", source.choice(ones), source.choice(orders), a), deep + 1
         elif word == "two" and twos:
@@ -85,6 +85,25 @@ def slopes(code, witness, index, name):
 def reads_of(row):
     """The slots that a row reads."""
     return row[{"in": 3, "put": 3, "add": 2, "sub": 2, "mul": 2, "one": 4, "two": 4}[row[1]]:]
+
+
+def read_code(world, text):
+    """The rows and the slots of the answers that the text of a code tells."""
+    *pieces, last = text.split("; ")
+    word, *slots = last.split(" ")
+    assert word == "answer", text
+    return [read_row(world, piece) for piece in pieces], [int(slot) for slot in slots]
+
+
+def read_row(world, text):
+    slot, sign, word, *items = text.split(" ")
+    assert sign == "=", text
+    if word == "in":
+        return (int(slot), word, *items)
+    if word == "put":
+        return (int(slot), word, *[Ratio.read(item) for item in items])
+    names, numbers = [item for item in items if item in world], [item for item in items if item not in world]
+    return (int(slot), word, *names, *[tuple(map(int, item.split(","))) if "," in item else int(item) for item in numbers])
 
 
 def values_of(code):

@@ -40,7 +40,7 @@ class BackCase(Case):
 class TestWayBack(BackCase):
     def test_rows(self):
         rows = [
-            ([(2, "in", "x")], ["1", "0"]), ([(2, "in", "y")], ["0", "1"]), ([(2, "put", 5)], ["0", "0"]), ([(2, "add", 0, 1)], ["1", "1"]),
+            ([(2, "in", "x")], ["1", "0"]), ([(2, "in", "y")], ["0", "1"]), ([(2, "put", Ratio(5))], ["0", "0"]), ([(2, "add", 0, 1)], ["1", "1"]),
             ([(2, "add", 0, 0)], ["2", "0"]), ([(2, "sub", 0, 1)], ["1", "-1"]), ([(2, "sub", 1, 0)], ["-1", "1"]), ([(2, "sub", 0, 0)], ["0", "0"]),
             ([(2, "mul", 0, 1)], ["y", "x"]), ([(2, "mul", 0, 0)], ["2*x", "0"]), ([(2, "one", "f", 0, 0)], ["f[1](x)", "0"]),
             ([(2, "one", "f", -1, 1)], ["0", "f(y)"]), ([(2, "one", "e", 1, 1)], ["0", "e[2](2 - y)"]), ([(2, "one", "e", -1, 0)], ["e(2 - x)", "0"]),
@@ -48,14 +48,14 @@ class TestWayBack(BackCase):
             ([(2, "two", "g", (0, 0), 0, 1)], ["g[1,0](x, y)", "g[0,1](x, y)"]), ([(2, "two", "g", (0, 0), 1, 0)], ["-g[1,0](x, y)", "-g[0,1](x, y)"]),
             ([(2, "two", "g", (0, 0), 0, 0)], ["0", "0"]), ([(2, "two", "g", (1, 0), 0, 0)], ["g[2,0](x, x)", "0"]),
             ([(0, "mul", 0, 1), (2, "mul", 0, 0)], ["2*x*y^2", "2*x^2*y"]), ([(0, "in", "y"), (2, "mul", 0, 1)], ["0", "2*y"]),
-            ([(2, "in", "x"), (2, "mul", 2, 0)], ["2*x", "0"]), ([(2, "one", "f", 0, 1), (3, "put", 1), (2, "sub", 3, 2)], ["0", "-f[1](y)"]),
+            ([(2, "in", "x"), (2, "mul", 2, 0)], ["2*x", "0"]), ([(2, "one", "f", 0, 1), (3, "put", Ratio(1)), (2, "sub", 3, 2)], ["0", "-f[1](y)"]),
         ]
         for more, slopes in rows:
             back = self.check(Code(WORLD, [*BEGIN, *more], [2]))
             self.assertEqual([str(form) for form in back.forms()], slopes, more)
 
     def test_several_answers(self):
-        code = Code(WORLD, [*BEGIN, (2, "mul", 0, 1), (0, "one", "f", 0, 2), (2, "add", 0, 2), (3, "put", 7)], [0, 2, 1, 2, 3])
+        code = Code(WORLD, [*BEGIN, (2, "mul", 0, 1), (0, "one", "f", 0, 2), (2, "add", 0, 2), (3, "put", Ratio(7))], [0, 2, 1, 2, 3])
         want = [["f[1](x*y)*y", "f[1](x*y)*x"], ["f[1](x*y)*y + y", "f[1](x*y)*x + x"], ["0", "1"], ["f[1](x*y)*y + y", "f[1](x*y)*x + x"], ["0", "0"]]
         for index, slopes in enumerate(want):
             self.assertEqual([str(form) for form in self.check(code, index).forms()], slopes)
@@ -68,14 +68,14 @@ class TestWayBack(BackCase):
         self.assertEqual([str(form) for form in way_back(code).forms()], ["f[1](x*y)*y", "f[1](x*y)*x"])
 
     def test_worlds_with_no_inputs_and_with_four(self):
-        back = self.check(Code(World([], {}), [(0, "put", 3)], [0]))
+        back = self.check(Code(World([], {}), [(0, "put", Ratio(3))], [0]))
         self.assertEqual((len(back), back.answer_slots()), (0, []))
         world = World(["x", "y", "a", "b"], {"g": Unseen(2)})
         code = Code(world, [(0, "in", "b"), (1, "in", "y"), (0, "two", "g", (0, 0), 0, 1)], [0])
         self.assertEqual([str(form) for form in self.check(code).forms()], ["0", "g[0,1](b, y)", "0", "g[1,0](b, y)"])
 
     def test_rows_that_the_answer_does_not_hang_on(self):
-        code = Code(WORLD, [*BEGIN, (2, "one", "f", 0, 1), (2, "one", "f", 5, 2), (2, "put", 1), (1, "mul", 0, 0)], [0, 1])
+        code = Code(WORLD, [*BEGIN, (2, "one", "f", 0, 1), (2, "one", "f", 5, 2), (2, "put", Ratio(1)), (1, "mul", 0, 0)], [0, 1])
         self.assertLess(len(self.check(code, 0)), 4)
         self.check(code, 1)
 
@@ -177,7 +177,7 @@ class TestErrors(BackCase):
         for row in [(2, "one", "f", 12, 0), (2, "one", "p", 12, 0), (2, "two", "g", (12, 0), 0, 1), (2, "two", "g", (0, 12), 0, 1), (2, "two", "g", (12, 12), 0, 0)]:
             self.assert_fails(InvalidRow(2), way_back, Code(WORLD, [*BEGIN, row], [2]))
             self.assert_fails(InvalidRow(2), way_back, Code(WORLD, [*BEGIN, row], [0]))
-            self.assert_fails(InvalidRow(1), way_back, Code(WORLD, [BEGIN[0], (1, "one", "f", 12, 0), (0, "put", 1), (2, "put", 2), (2, *row[1:])], [0]))
+            self.assert_fails(InvalidRow(1), way_back, Code(WORLD, [BEGIN[0], (1, "one", "f", 12, 0), (0, "put", Ratio(1)), (2, "put", Ratio(2)), (2, *row[1:])], [0]))
             self.assert_fails(InvalidRow(3), way_back, Code(WORLD, [*BEGIN, (7, "one", "f", 11, 1), row, row], [0, 1]), 1)
             self.assert_fails(InvalidNumber(1), way_back, Code(WORLD, [*BEGIN, row], [0]), 1)
 

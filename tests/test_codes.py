@@ -13,12 +13,14 @@ from unseenslopes.codes import Code
 from unseenslopes.curves import Curve, Sheet
 from unseenslopes.errors import InvalidRow, UnlikeWorlds
 from unseenslopes.forms import Form, constant
+from unseenslopes.programs import Program
 from unseenslopes.ratios import Ratio
+from unseenslopes.tracing import trace
 from unseenslopes.unseen import Unseen, World
 from unseenslopes.witnesses import Witness
 
 WORLD = World(["x", "y"], {"f": Unseen(), "e": Unseen(mirror="even", centre=1), "p": Unseen(degree=2), "g": Unseen(2, swap="same")})
-BEGIN = [(0, "in", "x"), (1, "put", 2)]
+BEGIN = [(0, "in", "x"), (1, "put", Ratio(2))]
 
 
 def witness(world=WORLD, x=3):
@@ -30,8 +32,8 @@ class TestRows(Case):
     def test_every_word(self):
         x, y = input_form(WORLD, "x"), input_form(WORLD, "y")
         rows = [
-            ((2, "in", "y"), "2 = in y", y, Ratio(1, 2)), ((2, "in", "x"), "2 = in x", x, 3), ((2, "put", 0), "2 = put 0", constant(0), 0),
-            ((2, "put", Ratio(-3, 4)), "2 = put -3/4", constant(Ratio(-3, 4)), Ratio(-3, 4)), ((2, "put", -7), "2 = put -7", constant(-7), -7),
+            ((2, "in", "y"), "2 = in y", y, Ratio(1, 2)), ((2, "in", "x"), "2 = in x", x, 3), ((2, "put", Ratio(0)), "2 = put 0", constant(0), 0),
+            ((2, "put", Ratio(-3, 4)), "2 = put -3/4", constant(Ratio(-3, 4)), Ratio(-3, 4)), ((2, "put", Ratio(-7)), "2 = put -7", constant(-7), -7),
             ((2, "add", 0, 1), "2 = add 0 1", x + 2, 5), ((2, "sub", 0, 1), "2 = sub 0 1", x - 2, 1), ((2, "sub", 1, 0), "2 = sub 1 0", 2 - x, -1),
             ((2, "mul", 0, 1), "2 = mul 0 1", 2 * x, 6), ((2, "mul", 0, 0), "2 = mul 0 0", x * x, 9), ((2, "add", 0, 0), "2 = add 0 0", 2 * x, 6),
             ((2, "sub", 0, 0), "2 = sub 0 0", constant(0), 0), ((2, "one", "f", 0, 0), "2 = one f 0 0", unseen_at(WORLD, "f", [0], [x]), 34),
@@ -60,22 +62,31 @@ class TestRows(Case):
         rows = [(0, "in", "x"), (3, "in", "y"), (0, "mul", 0, 3)]
         code = Code(WORLD, rows, [3, 0, 3])
         self.assertEqual(code.answer_slots(), [3, 0, 3])
-        self.assertEqual(str(code), "0 = in x; 3 = in y; 0 = mul 0 3; answer 3; answer 0; answer 3")
+        self.assertEqual(str(code), "0 = in x; 3 = in y; 0 = mul 0 3; answer 3 0 3")
         self.assertEqual([str(form) for form in code.forms()], ["y", "x*y", "y"])
         self.assertEqual(code.numbers(witness()), [Ratio(1, 2), Ratio(3, 2), Ratio(1, 2)])
         self.assertEqual((code.width, len(code), repr(code)), (4, 3, "Code(3 rows)"))
 
+    def test_the_word_answer_is_there_once(self):
+        rows = [(0, "in", "x"), (12, "put", Ratio(-3, 4)), (0, "two", "g", (10, 2), 0, 12)]
+        begin = "0 = in x; 12 = put -3/4; 0 = two g 10,2 0 12; "
+        for answers, text in [([], "answer"), ([12], "answer 12"), ([0, 12], "answer 0 12"), ((12, 0, 12, 12), "answer 12 0 12 12")]:
+            self.assertEqual(str(Code(WORLD, rows, answers)), begin + text)
+            self.assertEqual(Code(WORLD, rows, answers), Code(WORLD, tuple(rows), list(answers)))
+        self.assertNotEqual(Code(WORLD, rows, [0, 12]), Code(WORLD, rows, [12, 0]))
+        self.assertEqual(str(Code(WORLD, [], [])), "answer")
+
     def test_nothing(self):
         code = Code(WORLD, [], [])
         self.assertEqual((code.listing(), code.answer_slots(), code.forms(), code.numbers(witness())), ([], [], [], []))
-        self.assertEqual((str(code), repr(code), len(code), code.width), ("", "Code(0 rows)", 0, 0))
-        code = Code(WORLD, [(5, "put", 1)], [])
-        self.assertEqual((str(code), repr(code), len(code), code.width), ("5 = put 1", "Code(1 rows)", 1, 6))
+        self.assertEqual((str(code), repr(code), len(code), code.width), ("answer", "Code(0 rows)", 0, 0))
+        code = Code(WORLD, [(5, "put", Ratio(1))], [])
+        self.assertEqual((str(code), repr(code), len(code), code.width), ("5 = put 1; answer", "Code(1 rows)", 1, 6))
         self.assertEqual((code.forms(), code.numbers(witness())), ([], []))
-        self.assertEqual(Code(World([], {}), [(0, "put", 1)], [0]).numbers(Witness(World([], {}), inputs={}, functions={})), [1])
+        self.assertEqual(Code(World([], {}), [(0, "put", Ratio(1))], [0]).numbers(Witness(World([], {}), inputs={}, functions={})), [1])
 
     def test_slots_written_again(self):
-        rows = [(0, "in", "x"), (0, "add", 0, 0), (1, "put", 1), (0, "sub", 0, 1), (1, "mul", 0, 1), (1, "mul", 1, 1), (0, "in", "y")]
+        rows = [(0, "in", "x"), (0, "add", 0, 0), (1, "put", Ratio(1)), (0, "sub", 0, 1), (1, "mul", 0, 1), (1, "mul", 1, 1), (0, "in", "y")]
         code = Code(WORLD, rows, [0, 1])
         self.assertEqual([str(form) for form in code.forms()], ["y", "1 - 4*x + 4*x^2"])
         self.assertEqual(code.numbers(witness()), [Ratio(1, 2), 25])
@@ -83,19 +94,19 @@ class TestRows(Case):
 
     def test_slots_far_apart(self):
         far = 10 ** 29
-        code = Code(WORLD, [(far, "in", "x"), (7, "put", 2), (far, "mul", far, 7), (1000000, "add", 7, far)], [1000000, far])
+        code = Code(WORLD, [(far, "in", "x"), (7, "put", Ratio(2)), (far, "mul", far, 7), (1000000, "add", 7, far)], [1000000, far])
         self.assertEqual(code.width, far + 1)
         self.assertEqual([str(form) for form in code.forms()], ["2 + 2*x", "2*x"])
-        self.assertEqual(str(code), f"{far} = in x; 7 = put 2; {far} = mul {far} 7; 1000000 = add 7 {far}; answer 1000000; answer {far}")
+        self.assertEqual(str(code), f"{far} = in x; 7 = put 2; {far} = mul {far} 7; 1000000 = add 7 {far}; answer 1000000 {far}")
 
     def test_put(self):
-        for number in [0, 5, -5, 10 ** 30 - 1, Ratio(5), Ratio(1, 3), Ratio(-10 ** 29, 7)]:
+        for number in [Ratio(0), Ratio(-5), Ratio(10 ** 30 - 1), Ratio(5), Ratio(1, 3), Ratio(-10 ** 29, 7)]:
             code = Code(WORLD, [(0, "put", number)], [0])
             self.assertIs(type(code.listing()[0][2]), Ratio)
             self.assertEqual(code.listing(), [(0, "put", number)])
             self.assertEqual(str(code), f"0 = put {number}; answer 0")
             self.assertEqual(code.numbers(witness()), [number])
-        self.assertEqual(Code(WORLD, [(0, "put", 2)], []), Code(WORLD, [(0, "put", Ratio(4, 2))], []))
+        self.assertEqual(Code(WORLD, [(0, "put", Ratio(2))], []), Code(WORLD, [(0, "put", Ratio(4, 2))], []))
 
     def test_numbers_of_any_size(self):
         huge = Ratio(10 ** 29)
@@ -114,7 +125,7 @@ class TestRows(Case):
         other = World(["x", "y"], {"f": Unseen()})
         self.assertTrue(code == Code(World(["x", "y"], {name: WORLD.fact(name) for name in "gpfe"}), tuple(BEGIN), (0,)))
         for unlike in [Code(WORLD, BEGIN, [1]), Code(WORLD, BEGIN, []), Code(WORLD, BEGIN[:1], [0]), Code(other, BEGIN, [0]), Code(WORLD, BEGIN, [0, 0]),
-                       Code(WORLD, [(0, "in", "x"), (1, "put", 3)], [0]), Code(WORLD, BEGIN[::-1], [0]), Code(WORLD, [(0, "in", "y"), (1, "put", 2)], [0])]:
+                       Code(WORLD, [(0, "in", "x"), (1, "put", Ratio(3))], [0]), Code(WORLD, BEGIN[::-1], [0]), Code(WORLD, [(0, "in", "y"), (1, "put", Ratio(2))], [0])]:
             self.assertFalse(code == unlike)
             self.assertTrue(code != unlike)
         for value in [*ANY_VALUES, str(code), WORLD]:
@@ -124,7 +135,7 @@ class TestRows(Case):
     def test_lists_are_copied(self):
         rows, answers = list(BEGIN), [0]
         code = Code(WORLD, rows, answers)
-        rows.append((0, "put", 1))
+        rows.append((0, "put", Ratio(1)))
         answers.append(7)
         for told in (code.listing(), code.answer_slots(), code.forms(), code.numbers(witness())):
             told.append(9)
@@ -148,7 +159,7 @@ class TestRows(Case):
 class TestInvalidRows(Case):
     def fails(self, row):
         """A row that is none, at three places."""
-        lists = [([row], 0), ([*BEGIN, row], 2), ([*BEGIN, (2, "add", 0, 1), row, row, None], 3), ((*BEGIN, row, (0, "put", 5)), 2)]
+        lists = [([row], 0), ([*BEGIN, row], 2), ([*BEGIN, (2, "add", 0, 1), row, row, None], 3), ((*BEGIN, row, (0, "put", Ratio(5))), 2)]
         for rows, index in lists:
             self.assert_fails(InvalidRow(index), Code, WORLD, rows, [0])
             self.assert_fails(InvalidRow(index), Code, WORLD, rows, ["no slot"])
@@ -159,7 +170,7 @@ class TestInvalidRows(Case):
 
     def test_slots_that_are_written(self):
         for slot in [-1, None, True, False, "0", "", [0], (0,), Ratio(0), -10 ** 29]:
-            for rest in [("in", "x"), ("put", 1), ("add", 0, 1), ("sub", 0, 1), ("mul", 0, 0), ("one", "f", 0, 0), ("two", "g", (0, 0), 0, 1)]:
+            for rest in [("in", "x"), ("put", Ratio(1)), ("add", 0, 1), ("sub", 0, 1), ("mul", 0, 0), ("one", "f", 0, 0), ("two", "g", (0, 0), 0, 1)]:
                 self.fails((slot, *rest))
 
     def test_words(self):
@@ -170,7 +181,7 @@ class TestInvalidRows(Case):
             self.fails((2, word, "g", (0, 0), 0, 1))
 
     def test_lengths(self):
-        for row in [(2, "in", "x"), (2, "put", 1), (2, "add", 0, 1), (2, "sub", 0, 1), (2, "mul", 0, 0), (2, "one", "f", 0, 0), (2, "two", "g", (0, 0), 0, 1)]:
+        for row in [(2, "in", "x"), (2, "put", Ratio(1)), (2, "add", 0, 1), (2, "sub", 0, 1), (2, "mul", 0, 0), (2, "one", "f", 0, 0), (2, "two", "g", (0, 0), 0, 1)]:
             Code(WORLD, [*BEGIN, row], [2])
             self.fails(row[:-1])
             self.fails((*row, 0))
@@ -186,8 +197,18 @@ class TestInvalidRows(Case):
             self.fails((2, "two", name, (0, 0), 0, 1))
 
     def test_numbers(self):
-        for number in [None, True, False, "1", "", [1], (1,), (), "1/2"]:
-            self.fails((2, "put", number))
+        for value in [*ANY_VALUES, 0, 1, -1, 2, 10 ** 29, True, False, "1", "", [1], (1,), (), "1/2", (1, 2), [Ratio(1)], (Ratio(1),)]:
+            self.fails((2, "put", value))
+
+    def test_integers_in_rows_that_are_told(self):
+        rows = trace(Program(WORLD, "2 * x + 1/3")).listing()
+        puts = [index for index, row in enumerate(rows) if row[1] == "put"]
+        self.assertEqual(len(puts), 2)
+        for index in puts:
+            slot, word, ratio = rows[index]
+            self.assertIs(type(ratio), Ratio)
+            Code(WORLD, [*rows[:index], (slot, word, Ratio(5)), *rows[index + 1:]], [])
+            self.assert_fails(InvalidRow(index), Code, WORLD, [*rows[:index], (slot, word, ratio.top), *rows[index + 1:]], [])
 
     def test_numbers_of_slopes(self):
         for order in [-2, 13, None, True, False, "0", [0], (0,), (), Ratio(1), 10 ** 29]:
@@ -209,7 +230,7 @@ class TestInvalidRows(Case):
                     (2, "one", "f", 0, slot), (2, "two", "g", (0, 0), slot, 0), (2, "two", "g", (0, 0), 0, slot)]
             for row in rows:
                 self.assert_fails(InvalidRow(2), Code, WORLD, [*BEGIN, row], [])
-                self.assert_fails(InvalidRow(3), Code, WORLD, [*BEGIN, (5, "put", 0), row, (slot, "put", 1), (0, "bad")], [])
+                self.assert_fails(InvalidRow(3), Code, WORLD, [*BEGIN, (5, "put", Ratio(0)), row, (slot, "put", Ratio(1)), (0, "bad")], [])
 
     def test_a_row_reads_before_it_writes(self):
         self.assert_fails(InvalidRow(0), Code, WORLD, [(0, "add", 0, 0)], [0])
@@ -246,11 +267,18 @@ class TestRandomCodes(Case):
                 self.assertEqual([fraction(number) for number in code.numbers(given)], found)
                 self.assertEqual([given.worth(form) for form in forms], code.numbers(given))
 
+    def test_texts_tell_codes(self):
+        source = random.Random(62)
+        for _ in range(100):
+            world = random_world(source)
+            code = codey.random_code(world, source)
+            self.assertEqual(codey.read_code(world, str(code)), (code.listing(), code.answer_slots()), str(code))
+
     def test_long_codes(self):
         rows = [(0, "in", "x")] + [(0, "one", "f", 1, 0) for _ in range(399)]
         form = Code(WORLD, rows, [0]).forms()[0]
         self.assertEqual(form.text, "f[1](" * 399 + "x" + ")" * 399)
-        rows = [(0, "in", "x"), (1, "put", 1)] + [(0, "add", 0, 1) for _ in range(398)]
+        rows = [(0, "in", "x"), (1, "put", Ratio(1))] + [(0, "add", 0, 1) for _ in range(398)]
         self.assertEqual(str(Code(WORLD, rows, [0]).forms()[0]), "398 + x")
         self.assertEqual(Code(WORLD, rows, [0]).numbers(witness()), [401])
 

@@ -27,7 +27,7 @@ from unseenslopes.witnesses import Witness
 
 WORLD = World(["x", "h"], {"f": Unseen(), "e": Unseen(mirror="even"), "g": Unseen(2)})
 SHAPES = {"f": Curve([1, 2]), "e": Curve([0, 0, 3]), "g": Sheet([(1, 0, 1)])}
-ROWS = [(0, "in", "x"), (1, "put", 2), (0, "mul", 0, 1)]
+ROWS = [(0, "in", "x"), (1, "put", Ratio(2)), (0, "mul", 0, 1)]
 
 
 def made(text, world=WORLD):
@@ -90,7 +90,7 @@ class TestTuplesAndIntegers(Case):
             (integral_of(WORLD, 0, 2, "f"), integral_of(WORLD, Ratio(0), constant(2), "f")), (made("?1").filled([-2]), made("?1").filled([Ratio(-2)])),
             (Curve([1, 2]), Curve([Ratio(1), Ratio(2)])), (Curve([0, 1]).integral_curve(2), Curve([0, 1]).integral_curve(Ratio(2))), (Curve([0, 1])(2), Ratio(2)),
             (Sheet([(0, 1, 2)]), Sheet([(0, 1, Ratio(2))])), (Sheet([(0, 1, 2)])(1, 3), Sheet([(0, 1, 2)])(Ratio(1), Ratio(3))), (witness(2), witness(Ratio(2))),
-            (Code(WORLD, ROWS, [0]), Code(WORLD, [ROWS[0], (1, "put", Ratio(2)), ROWS[2]], [0])), (Ratio(3).over(2), Ratio(3).over(Ratio(2))),
+            (Ratio(3).over(2), Ratio(3).over(Ratio(2))),
             (Filling(made("?1"), made("?2 + 1"), [1, 0], [[1, 1]]).programs(2), Filling(made("?1"), made("?2 + 1"), [Ratio(1), 0], [[1, Ratio(1)]]).programs(Ratio(2))),
         ]
         for found, want in pairs:

@@ -11,6 +11,7 @@ from unseenslopes.back import way_back
 from unseenslopes.codes import Code
 from unseenslopes.packing import alive_counts, packed, shared
 from unseenslopes.programs import Program
+from unseenslopes.ratios import Ratio
 from unseenslopes.tracing import trace
 from unseenslopes.unseen import Unseen, World
 
@@ -80,29 +81,29 @@ class TestShared(Case):
     def test_codes(self):
         rows = [
             ([*BEGIN, (2, "add", 0, 1), (3, "add", 1, 0), (4, "mul", 2, 3)], [4], "0 = in x; 1 = in y; 2 = add 0 1; 3 = mul 2 2; answer 3"),
-            ([(0, "in", "x"), (1, "in", "x"), (2, "mul", 1, 1)], [2, 1], "0 = in x; 1 = mul 0 0; answer 1; answer 0"),
-            ([(0, "put", 2), (1, "add", 0, 0), (2, "mul", 0, 0), (3, "put", 4)], [2, 3], "0 = put 2; 1 = add 0 0; answer 1; answer 1"),
+            ([(0, "in", "x"), (1, "in", "x"), (2, "mul", 1, 1)], [2, 1], "0 = in x; 1 = mul 0 0; answer 1 0"),
+            ([(0, "put", Ratio(2)), (1, "add", 0, 0), (2, "mul", 0, 0), (3, "put", Ratio(4))], [2, 3], "0 = put 2; 1 = add 0 0; answer 1 1"),
             ([*BEGIN, (2, "one", "f", 0, 0), (3, "one", "f", 0, 1)], [2], "0 = in x; 1 = one f 0 0; answer 1"),
             ([*BEGIN, (2, "one", "f", 0, 0), (3, "one", "f", 0, 2)], [1], "0 = in y; answer 0"),
-            ([*BEGIN], [], ""), ([], [], ""),
-            ([(0, "in", "x"), (1, "put", 0), (2, "sub", 1, 0), (3, "one", "e", 0, 0), (4, "one", "e", 0, 2), (5, "mul", 3, 4)], [5],
+            ([*BEGIN], [], "answer"), ([], [], "answer"),
+            ([(0, "in", "x"), (1, "put", Ratio(0)), (2, "sub", 1, 0), (3, "one", "e", 0, 0), (4, "one", "e", 0, 2), (5, "mul", 3, 4)], [5],
              "0 = in x; 1 = one e 0 0; 2 = mul 1 1; answer 2"),
-            ([(0, "in", "x"), (1, "put", 0), (2, "sub", 1, 0), (3, "one", "e", 0, 2), (4, "one", "e", 0, 0), (5, "mul", 3, 4)], [5],
+            ([(0, "in", "x"), (1, "put", Ratio(0)), (2, "sub", 1, 0), (3, "one", "e", 0, 2), (4, "one", "e", 0, 0), (5, "mul", 3, 4)], [5],
              "0 = in x; 1 = put 0; 2 = sub 1 0; 3 = one e 0 2; 4 = mul 3 3; answer 4"),
             ([*BEGIN, (2, "two", "g", (1, 0), 0, 1), (3, "two", "g", (0, 1), 1, 0), (4, "sub", 2, 3)], [3, 2],
-             "0 = in x; 1 = in y; 2 = two g 1,0 0 1; answer 2; answer 2"),
+             "0 = in x; 1 = in y; 2 = two g 1,0 0 1; answer 2 2"),
             ([*BEGIN, (2, "one", "p", 1, 0), (3, "one", "p", 1, 1), (4, "add", 2, 3)], [4], "0 = in x; 1 = one p 1 0; 2 = add 1 1; answer 2"),
-            ([(0, "in", "x"), (1, "put", 1), (0, "add", 0, 1), (2, "in", "x"), (1, "add", 1, 2)], [0, 1], "0 = in x; 1 = put 1; 2 = add 0 1; answer 2; answer 2"),
+            ([(0, "in", "x"), (1, "put", Ratio(1)), (0, "add", 0, 1), (2, "in", "x"), (1, "add", 1, 2)], [0, 1], "0 = in x; 1 = put 1; 2 = add 0 1; answer 2 2"),
             ([(0, "in", "x"), (0, "mul", 0, 0), (0, "in", "x"), (0, "mul", 0, 0)], [0], "0 = in x; 1 = mul 0 0; answer 1"),
-            ([(0, "put", 1), (1, "put", 2), (2, "add", 0, 0), (3, "in", "x"), (2, "mul", 2, 3)], [2], "0 = put 2; 1 = in x; 2 = mul 0 1; answer 2"),
-            ([(0, "put", 1), (2, "add", 0, 0), (1, "put", 2), (3, "in", "x"), (2, "mul", 1, 3)], [2], "0 = put 1; 1 = add 0 0; 2 = in x; 3 = mul 1 2; answer 3"),
+            ([(0, "put", Ratio(1)), (1, "put", Ratio(2)), (2, "add", 0, 0), (3, "in", "x"), (2, "mul", 2, 3)], [2], "0 = put 2; 1 = in x; 2 = mul 0 1; answer 2"),
+            ([(0, "put", Ratio(1)), (2, "add", 0, 0), (1, "put", Ratio(2)), (3, "in", "x"), (2, "mul", 1, 3)], [2], "0 = put 1; 1 = add 0 0; 2 = in x; 3 = mul 1 2; answer 3"),
         ]
         for listing, answers, text in rows:
             self.assertEqual(self.check(Code(WORLD, listing, answers)), text)
         self.assertEqual(shared(code=Code(WORLD, BEGIN, [1])).listing(), [(0, "in", "y")])
 
     def test_equal_forms_by_facts_of_the_world(self):
-        rows = [(0, "in", "x"), (1, "put", 2), (2, "sub", 1, 0), (3, "one", "f", 0, 0), (4, "one", "f", 0, 2), (5, "add", 3, 4)]
+        rows = [(0, "in", "x"), (1, "put", Ratio(2)), (2, "sub", 1, 0), (3, "one", "f", 0, 0), (4, "one", "f", 0, 2), (5, "add", 3, 4)]
         for fact, many in [(Unseen(), 6), (Unseen(mirror="even", centre=1), 3), (Unseen(mirror="odd", centre=1), 6), (Unseen(degree=0), 3)]:
             world = World(["x"], {"f": fact})
             self.check(Code(world, rows, [5]))
@@ -146,19 +147,19 @@ class TestPacked(Case):
 
     def test_codes(self):
         rows = [
-            ([], [], "", []), ([(7, "in", "x")], [], "0 = in x", [1]), ([(7, "in", "x")], [7, 7], "0 = in x; answer 0; answer 0", [1]),
-            ([(7, "in", "x"), (8, "in", "y")], [], "0 = in x; 0 = in y", [1, 1]), ([(7, "in", "x"), (8, "in", "y")], [7], "0 = in x; 1 = in y; answer 0", [1, 2]),
+            ([], [], "answer", []), ([(7, "in", "x")], [], "0 = in x; answer", [1]), ([(7, "in", "x")], [7, 7], "0 = in x; answer 0 0", [1]),
+            ([(7, "in", "x"), (8, "in", "y")], [], "0 = in x; 0 = in y; answer", [1, 1]), ([(7, "in", "x"), (8, "in", "y")], [7], "0 = in x; 1 = in y; answer 0", [1, 2]),
             ([(7, "in", "x"), (8, "in", "y")], [8], "0 = in x; 0 = in y; answer 0", [1, 1]),
             ([(5, "in", "x"), (6, "mul", 5, 5), (7, "mul", 6, 6)], [7], "0 = in x; 0 = mul 0 0; 0 = mul 0 0; answer 0", [1, 1, 1]),
             ([(5, "in", "x"), (6, "mul", 5, 5), (7, "mul", 6, 5)], [7], "0 = in x; 1 = mul 0 0; 0 = mul 1 0; answer 0", [1, 2, 1]),
             ([(5, "in", "x"), (6, "in", "y"), (7, "sub", 5, 6), (8, "add", 5, 7)], [8], "0 = in x; 1 = in y; 1 = sub 0 1; 0 = add 0 1; answer 0", [1, 2, 2, 1]),
-            ([(5, "in", "x"), (6, "in", "y"), (7, "sub", 5, 6), (8, "add", 6, 7)], [8, 5], "0 = in x; 1 = in y; 2 = sub 0 1; 1 = add 1 2; answer 1; answer 0",
+            ([(5, "in", "x"), (6, "in", "y"), (7, "sub", 5, 6), (8, "add", 6, 7)], [8, 5], "0 = in x; 1 = in y; 2 = sub 0 1; 1 = add 1 2; answer 1 0",
              [1, 2, 3, 2]),
-            ([(0, "in", "x"), (1, "in", "y"), (1, "put", 1), (2, "put", 2), (3, "add", 0, 2)], [3], "0 = in x; 1 = in y; 1 = put 1; 1 = put 2; 0 = add 0 1; answer 0",
+            ([(0, "in", "x"), (1, "in", "y"), (1, "put", Ratio(1)), (2, "put", Ratio(2)), (3, "add", 0, 2)], [3], "0 = in x; 1 = in y; 1 = put 1; 1 = put 2; 0 = add 0 1; answer 0",
              [1, 2, 2, 2, 1]),
-            ([(0, "in", "x"), (0, "in", "y"), (0, "put", 1)], [0], "0 = in x; 0 = in y; 0 = put 1; answer 0", [1, 1, 1]),
-            ([(3, "in", "x"), (4, "put", 3), (5, "put", 4), (6, "two", "g", (0, 0), 4, 5), (7, "add", 3, 6)], [7, 6, 7],
-             "0 = in x; 1 = put 3; 2 = put 4; 1 = two g 0,0 1 2; 0 = add 0 1; answer 0; answer 1; answer 0", [1, 2, 3, 2, 2]),
+            ([(0, "in", "x"), (0, "in", "y"), (0, "put", Ratio(1))], [0], "0 = in x; 0 = in y; 0 = put 1; answer 0", [1, 1, 1]),
+            ([(3, "in", "x"), (4, "put", Ratio(3)), (5, "put", Ratio(4)), (6, "two", "g", (0, 0), 4, 5), (7, "add", 3, 6)], [7, 6, 7],
+             "0 = in x; 1 = put 3; 2 = put 4; 1 = two g 0,0 1 2; 0 = add 0 1; answer 0 1 0", [1, 2, 3, 2, 2]),
         ]
         for listing, answers, text, counts in rows:
             self.assertEqual(self.check(Code(WORLD, listing, answers)), (text, counts))

@@ -3,7 +3,7 @@
 from unseenslopes.errors import InvalidRow, UnlikeWorlds
 from unseenslopes.grounds import FormGround, RatioGround
 from unseenslopes.holding import answer_worths
-from unseenslopes.rows import is_row, is_slot, plain_row, reads_of, row_text
+from unseenslopes.rows import answers_text, is_row, is_slot, reads_of, row_text
 
 
 def check_code(world, code_rows, answers):
@@ -24,10 +24,10 @@ class Code:
     def __init__(self, world, code_rows, answers):
         check_code(world, code_rows, answers)
         self.world = world
-        self._rows = [plain_row(row) for row in code_rows]
+        self._rows = list(code_rows)
         self._slots = list(answers)
         pieces = [row_text(row) for row in self._rows]
-        self.text = "; ".join([*pieces, *[f"answer {slot}" for slot in self._slots]])
+        self.text = "; ".join([*pieces, answers_text(self._slots)])
 
     def listing(self):
         """The list of the rows."""

@@ -5,13 +5,13 @@ reads.
 
 word           items
 in             the name of an input
-put            a number
+put            a Ratio, no integer
 add, sub, mul  -
 one            the name of an unseen function, its number of slopes
 two            the name of an unseen function, the tuple of its two numbers of slopes
 """
 
-from unseenslopes.ratios import is_integer, is_number, ratio_of
+from unseenslopes.ratios import Ratio, is_integer
 
 MOST_SLOPES = 12
 SIZES = {"in": 3, "put": 3, "add": 4, "sub": 4, "mul": 4, "one": 5, "two": 6}
@@ -53,7 +53,7 @@ def has_items(world, row):
     if word == "in":
         return row[2] in world.inputs()
     if word == "put":
-        return is_number(row[2])
+        return isinstance(row[2], Ratio)
     if word == "one":
         return is_of_arity(world, row[2], 1) and is_order(row[3], -1)
     if word == "two":
@@ -64,11 +64,6 @@ def has_items(world, row):
 def reads_of(row):
     """The tuple of the slots that a row reads."""
     return row[FIRST_READS[row[1]]:]
-
-
-def plain_row(row):
-    """A row in which a Ratio stands for each number that is put."""
-    return (row[0], "put", ratio_of(row[2])) if row[1] == "put" else row
 
 
 def moved_row(row, slot, places):
@@ -90,3 +85,8 @@ def deed_text(row):
 def row_text(row):
     """The text of a row."""
     return f"{row[0]} = {deed_text(row)}"
+
+
+def answers_text(slots):
+    """The text of the slots of the answers."""
+    return " ".join(["answer", *[str(slot) for slot in slots]])
